@@ -1,0 +1,1 @@
+"""Eightcells: any book of yes/no rules, never a guess or it says everything."""

@@ -1,0 +1,74 @@
+"""The interface's names, and what of LANGUAGE.md can be seen from the text of the files."""
+
+import ast
+import unittest
+from inspect import signature
+from pathlib import Path
+
+import eightcells
+from eightcells import books, errors, relations
+
+PACKAGE = Path(eightcells.__file__).parent
+IMPORTED = {"eightcells", "__future__", "heapq", "math", "itertools", "collections"}
+FILES = sorted(PACKAGE.glob("**/*.py"))
+
+CLASSES = [
+    (relations, "Relation", ["size", "rows"], {
+        "has": ["row"], "opposite": [], "read_at": ["places"], "alike": ["i", "j"], "both": ["other"],
+        "beside": ["other"], "__eq__": ["other"], "__len__": []}),
+    (books, "Book", ["relations"], {"__eq__": ["other"], "__len__": []}),
+    (errors, "InvalidNumber", ["value"], {}),
+    (errors, "InvalidPuzzle", ["part", "place"], {}),
+    (errors, "InvalidText", ["text", "at"], {}),
+]
+
+
+class InterfaceTest(unittest.TestCase):
+
+    def test_classes_stand_in_their_files_with_their_methods(self):
+        for module, name, arguments, methods in CLASSES:
+            with self.subTest(name=name):
+                made = getattr(module, name)
+                self.assertEqual(made.__module__, module.__name__)
+                self.assertEqual(list(signature(made).parameters), arguments)
+                for method, parameters in methods.items():
+                    self.assertIn(method, vars(made))
+                    self.assertEqual(list(signature(vars(made)[method]).parameters), ["self"] + parameters)
+
+
+class FormTest(unittest.TestCase):
+
+    def test_the_package_holds_nothing_but_python_files(self):
+        others = [path for path in PACKAGE.rglob("*")
+                  if "__pycache__" not in path.parts and path.suffix != ".py"]
+        self.assertEqual(others, [])
+        self.assertIn(PACKAGE / "__init__.py", FILES)
+
+    def test_lines_and_signs(self):
+        for path in FILES:
+            text = path.read_text(encoding="utf-8")
+            lines = text.split("\n")
+            with self.subTest(path=path.name):
+                self.assertEqual({sign for sign in text if sign != "\n" and not " " <= sign <= "~"}, set())
+                self.assertLessEqual(len(lines), 400)
+                self.assertLessEqual(max(len(line) for line in lines), 120)
+
+    def test_functions_are_small(self):
+        for path in FILES:
+            for node in ast.walk(ast.parse(path.read_text(encoding="utf-8"))):
+                if isinstance(node, ast.FunctionDef):
+                    with self.subTest(path=path.name, name=node.name):
+                        self.assertLessEqual(node.end_lineno - node.lineno + 1, 40)
+
+    def test_imports_name_only_what_may_be_imported(self):
+        for path in FILES:
+            for node in ast.walk(ast.parse(path.read_text(encoding="utf-8"))):
+                with self.subTest(path=path.name):
+                    self.assertNotIsInstance(node, ast.Import)
+                    if isinstance(node, ast.ImportFrom):
+                        self.assertEqual(node.level, 0)
+                        self.assertIn(node.module.split(".")[0], IMPORTED)
+
+
+if __name__ == "__main__":
+    unittest.main()
