@@ -1,6 +1,6 @@
 """Relations: which rows of one to four values a tie allows."""
 
-from eightcells.basics import is_integer, is_number_below, is_row, is_sequence
+from eightcells.basics import is_integer, is_number_below, is_row, is_sequence, opposite_of
 from eightcells.errors import InvalidNumber, InvalidRelation, Undefined
 
 MOST_PLACES = 4
@@ -26,7 +26,7 @@ class Relation:
         return is_row(row, self.size) and row in self.rows
 
     def opposite(self):
-        return Relation(self.size, [tuple([1 - value for value in row]) for row in self.rows])
+        return Relation(self.size, [opposite_of(row) for row in self.rows])
 
     def read_at(self, places):
         if not _are_places(places, self.size):

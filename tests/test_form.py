@@ -6,7 +6,7 @@ from inspect import signature
 from pathlib import Path
 
 import eightcells
-from eightcells import books, errors, relations
+from eightcells import books, errors, puzzles, relations, tables, terms, texts
 
 PACKAGE = Path(eightcells.__file__).parent
 IMPORTED = {"eightcells", "__future__", "heapq", "math", "itertools", "collections"}
@@ -17,9 +17,20 @@ CLASSES = [
         "has": ["row"], "opposite": [], "read_at": ["places"], "alike": ["i", "j"], "both": ["other"],
         "beside": ["other"], "__eq__": ["other"], "__len__": []}),
     (books, "Book", ["relations"], {"__eq__": ["other"], "__len__": []}),
+    (puzzles, "Puzzle", ["book", "cell_count", "ties"], {
+        "with_tie": ["tie"], "without": ["t"], "__eq__": ["other"]}),
     (errors, "InvalidNumber", ["value"], {}),
     (errors, "InvalidPuzzle", ["part", "place"], {}),
     (errors, "InvalidText", ["text", "at"], {}),
+]
+
+FUNCTIONS = [
+    (puzzles, ["is_filling(puzzle, value)", "is_start(puzzle, value)", "fillings(puzzle, start=())",
+               "views(puzzle, t, start=())"]),
+    (texts, ["write_puzzle(puzzle)", "read_puzzle(text)"]),
+    (tables, ["is_table(value, m)", "worth_of(table, row)", "made_row(table, rows)", "break_of(book, table)",
+              "table_of(word)", "kept_by(book, *, fixed=False)", "blamed(book)", "widened(table)"]),
+    (terms, ["term_table(table, term)", "is_plain(table)", "term_of(table)", "term_holds(table, claim)"]),
 ]
 
 
@@ -34,6 +45,15 @@ class InterfaceTest(unittest.TestCase):
                 for method, parameters in methods.items():
                     self.assertIn(method, vars(made))
                     self.assertEqual(list(signature(vars(made)[method]).parameters), ["self"] + parameters)
+
+    def test_functions_stand_in_their_files_with_their_arguments(self):
+        for module, shown in FUNCTIONS:
+            for line in shown:
+                with self.subTest(line=line):
+                    name = line.split("(")[0]
+                    made = getattr(module, name)
+                    self.assertEqual(made.__module__, module.__name__)
+                    self.assertEqual(name + str(signature(made)), line)
 
 
 class FormTest(unittest.TestCase):
