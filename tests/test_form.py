@@ -6,7 +6,7 @@ from inspect import signature
 from pathlib import Path
 
 import eightcells
-from eightcells import books, errors, puzzles, relations, tables, terms, texts
+from eightcells import books, chains, eight, errors, papers, puzzles, relations, tables, terms, texts
 
 PACKAGE = Path(eightcells.__file__).parent
 IMPORTED = {"eightcells", "__future__", "heapq", "math", "itertools", "collections"}
@@ -31,6 +31,10 @@ FUNCTIONS = [
     (tables, ["is_table(value, m)", "worth_of(table, row)", "made_row(table, rows)", "break_of(book, table)",
               "table_of(word)", "kept_by(book, *, fixed=False)", "blamed(book)", "widened(table)"]),
     (terms, ["term_table(table, term)", "is_plain(table)", "term_of(table)", "term_holds(table, claim)"]),
+    (eight, ["deed_puzzle(book, m)", "side(book, *, fixed=False)", "side_paper(book, *, fixed=False)",
+             "side_holds(book, claim, paper, *, fixed=False)"]),
+    (papers, ["none_holds(puzzle, start, paper)"]),
+    (chains, ["forced(puzzle, start=())"]),
 ]
 
 
