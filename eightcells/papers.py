@@ -84,9 +84,10 @@ def _ring_holds(puzzle, fixed, paper):
 
 
 def _leads(puzzle, fixed, steps, first, last):
-    """Whether the steps, at least one, lead from the first cell and value to the last."""
-    if not isinstance(steps, tuple) or not steps:
+    """Whether the steps lead from the first cell and value to the last."""
+    if not isinstance(steps, tuple):
         return False
+    # The last is never the first, so without steps it is not come to.
     here = first
     for step in steps:
         if not _is_step(puzzle, step) or not _follows(puzzle, fixed, here, step):

@@ -5,6 +5,7 @@ import unittest
 from eightcells.books import Book
 from eightcells.errors import InvalidBook
 from eightcells.relations import Relation
+from tests.cases import Case
 from tests.samples import any_values, no_sequences
 
 
@@ -87,12 +88,7 @@ class WrongBookTest(unittest.TestCase):
         self.assertEqual(relations, [Relation(1, [(0,)]), None])
 
 
-class EqualTest(unittest.TestCase):
-
-    def assert_equal_is(self, one, other, whether):
-        self.assertIs(one == other, whether)
-        self.assertIs(other == one, whether)
-        self.assertIs(one != other, not whether)
+class EqualTest(Case):
 
     def test_equal_relations_in_the_same_order(self):
         for many in range(1, 7):

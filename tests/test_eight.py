@@ -104,7 +104,8 @@ class DeedPuzzleTest(unittest.TestCase):
         puzzle = deed_puzzle(Book([UNLIKE]), 2)
         self.assertEqual((puzzle.cell_count, puzzle.ties), (4, ((0, (0, 3)), (0, (1, 2)), (0, (2, 1)), (0, (3, 0)))))
         puzzle = deed_puzzle(Book([ONE_OF_THREE]), 3)
-        self.assertEqual(puzzle.ties[:3] + puzzle.ties[5:6], ((0, (0, 0, 7)), (0, (0, 1, 6)), (0, (1, 0, 6)), (0, (1, 2, 4))))
+        self.assertEqual(puzzle.ties[:3] + puzzle.ties[5:6],
+                         ((0, (0, 0, 7)), (0, (0, 1, 6)), (0, (1, 0, 6)), (0, (1, 2, 4))))
         self.assertEqual((puzzle.cell_count, len(puzzle.ties)), (8, 27))
         puzzle = deed_puzzle(Book([Relation(1, [(0,), (1,)])]), 4)
         self.assertEqual((puzzle.cell_count, puzzle.ties), (16, tuple((0, (cell,)) for cell in range(16))))
@@ -275,7 +276,8 @@ class SideHoldsTest(unittest.TestCase):
         paper = side_paper(book)
         rows = (UNLIKE.rows[0],) * 3
         self.assert_holds(book, ("all", 3), paper + ((1, rows),), False, True)
-        for pair in ((2, rows), (-1, rows), (-2, rows), (True, rows), ("1", rows), (None, rows), (0, rows), (1, list(rows)),
+        for pair in ((2, rows), (-1, rows), (-2, rows), (True, rows), ("1", rows), (None, rows), (0, rows),
+                     (1, list(rows)),
                      [1, rows], (1, rows, 0), (1,), (rows, 1), (1, rows[:2]), (1, rows + rows[:1]), (1, ()), (1, None),
                      (1, rows[:2] + ((0, 0),)), (1, rows[:2] + ((1, 1),)), (1, rows[:2] + ([0, 1],)),
                      (1, rows[:2] + ((False, 1),)), (1, rows[:2] + ((0, True),)), (1, rows[:2] + ((0, 1, 0),)),
@@ -289,7 +291,8 @@ class SideHoldsTest(unittest.TestCase):
             for fixed, claim in ((False, loose), (True, fast)):
                 paper = side_paper(book, fixed=fixed)
                 self.assert_holds(book, claim, paper, fixed, True)
-                for other in list(spoilt(claim)) + [("all", 3), ("all", 6), ("kept", ()), ("kept", claim[1]), ("all", 0),
+                for other in list(spoilt(claim)) + [("all", 3), ("all", 6), ("kept", ()), ("kept", claim[1]),
+                                                    ("all", 0),
                                                     ("all", True), ("kept", ("and",)), "all", 3, None, [*claim]]:
                     self.assert_holds(book, other, paper, fixed, type(other) is tuple and other == claim)
 

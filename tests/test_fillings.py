@@ -4,9 +4,10 @@ import unittest
 from itertools import permutations
 
 from eightcells.books import Book
-from eightcells.errors import CellError, InvalidNumber, InvalidStart
+from eightcells.errors import InvalidNumber, InvalidStart
 from eightcells.puzzles import Puzzle, fillings, is_filling, is_start, views
 from eightcells.relations import Relation
+from tests.cases import Case
 from tests.samples import any_values, is_all_plain, nested
 from tests.worked_out import (
     all_fillings, all_rows, all_views, drawing, drawn_book, drawn_puzzle, drawn_start, fits)
@@ -19,22 +20,14 @@ PUZZLE = Puzzle(BOOK, 4, [(0, (0, 1)), (1, (1, 2, 3)), (2, (2, 2))])
 WRONG_STARTS = [
     [], [(0, 1)], [[0, 1]], ([0, 1],), ((0,),), ((0, 1, 0),), (0, 1), ((0, 1), 1), (((0, 1),),), ((0, 2),), ((0, -1),),
     ((0, True),), ((0, False),), ((True, 1),), ((False, 1),), ((0, None),), ((None, 0),), (("0", 1),), ((0, "1"),),
-    ((0, (1,)),), (((0,), 1),), ((4, 0),), ((10 ** 5000, 0),), ((-1, 0),), ((-4, 0),), ((0, 1), (0, 1)), ((0, 0), (0, 1)),
+    ((0, (1,)),), (((0,), 1),), ((4, 0),), ((10 ** 5000, 0),), ((-1, 0),), ((-4, 0),), ((0, 1), (0, 1)),
+    ((0, 0), (0, 1)),
     ((1, 0), (0, 0)), ((0, 0), (2, 1), (1, 1)), ((0, 0), (1, 1), (2, 0), (2, 0)), ((0, 0), (1, 1), (2, 2)),
     ((0, 0), (1, 1), [2, 0]), ((0, 0), (1, 1), (4, 0)), {0: 1}, ((0, 1), None), ((0, 0), ())]
 
 
 def wrong_starts():
     return WRONG_STARTS + [value for value in any_values() if value not in ((), ((0, 1),))]
-
-
-class ShowTest(unittest.TestCase):
-
-    def assert_raises_with(self, error, value, call, *arguments, **named):
-        with self.assertRaises(CellError) as told:
-            call(*arguments, **named)
-        self.assertIs(type(told.exception), error)
-        self.assertIs(told.exception.value, value)
 
 
 class IsFillingTest(unittest.TestCase):
@@ -66,9 +59,11 @@ class IsFillingTest(unittest.TestCase):
     def test_any_value_at_all(self):
         good = (0, 1, 0, 0)
         for puzzle in (PUZZLE, Puzzle(BOOK, 4, ()), Puzzle(BOOK, 1, ()), Puzzle(BOOK, 2, ())):
-            for value in any_values() + [list(good), (good,), [good], "0100", (False, True, False, False), (0, 1, 0, False),
+            for value in any_values() + [list(good), (good,), [good], "0100", (False, True, False, False),
+                                         (0, 1, 0, False),
                                          (0, 1, 0, None), (0, 1, 0, 2), (0, 1, 0, -1), (0, 1, 0, "0"), (0, 1, 0, (0,)),
-                                         (0, 1, 0, [0]), (0, (1, 0), 0), (0, 10 ** 5000, 0, 0), nested(30, tuple, good)]:
+                                         (0, 1, 0, [0]), (0, (1, 0), 0), (0, 10 ** 5000, 0, 0),
+                                         nested(30, tuple, good)]:
                 self.assertIs(is_filling(puzzle, value), False)
 
     def test_arguments_by_name(self):
@@ -98,7 +93,7 @@ class IsStartTest(unittest.TestCase):
         self.assertIs(is_start(value=((0, 1),), puzzle=PUZZLE), True)
 
 
-class FillingsTest(ShowTest):
+class FillingsTest(Case):
 
     def assert_fillings(self, puzzle, start=()):
         found = fillings(puzzle, start)
@@ -153,11 +148,11 @@ class FillingsTest(ShowTest):
 
     def test_what_is_no_start(self):
         for start in wrong_starts():
-            self.assert_raises_with(InvalidStart, start, fillings, PUZZLE, start)
-            self.assert_raises_with(InvalidStart, start, fillings, PUZZLE, start=start)
+            self.assert_raises_with(InvalidStart, "value", start, fillings, PUZZLE, start)
+            self.assert_raises_with(InvalidStart, "value", start, fillings, PUZZLE, start=start)
 
 
-class ViewsTest(ShowTest):
+class ViewsTest(Case):
 
     def test_worked_out_by_hand(self):
         self.assertEqual(views(PUZZLE, 0), ((0, 1), (1, 0)))
@@ -191,15 +186,15 @@ class ViewsTest(ShowTest):
     def test_what_is_no_number_of_a_tie(self):
         wrong = [thing for thing in any_values() if type(thing) is not int]
         for t in wrong + [3, 4, -1, -3, True, False, 10 ** 5000, "0"]:
-            self.assert_raises_with(InvalidNumber, t, views, PUZZLE, t)
-            self.assert_raises_with(InvalidNumber, t, views, PUZZLE, t, ((0, 1),))
-            self.assert_raises_with(InvalidNumber, t, views, PUZZLE, t, [None])
-        self.assert_raises_with(InvalidNumber, 0, views, Puzzle(BOOK, 4, ()), 0)
+            self.assert_raises_with(InvalidNumber, "value", t, views, PUZZLE, t)
+            self.assert_raises_with(InvalidNumber, "value", t, views, PUZZLE, t, ((0, 1),))
+            self.assert_raises_with(InvalidNumber, "value", t, views, PUZZLE, t, [None])
+        self.assert_raises_with(InvalidNumber, "value", 0, views, Puzzle(BOOK, 4, ()), 0)
 
     def test_what_is_no_start(self):
         for start in wrong_starts():
-            self.assert_raises_with(InvalidStart, start, views, PUZZLE, 0, start)
-            self.assert_raises_with(InvalidStart, start, views, PUZZLE, t=2, start=start)
+            self.assert_raises_with(InvalidStart, "value", start, views, PUZZLE, 0, start)
+            self.assert_raises_with(InvalidStart, "value", start, views, PUZZLE, t=2, start=start)
 
 
 class SameAnswerTest(unittest.TestCase):

@@ -125,7 +125,8 @@ class RingTest(JudgeTest):
     def test_rings(self):
         self.assert_holds(ODD_RING, (), RING)
         self.assert_holds(ODD_RING, ((3, 0),), RING)
-        self.assert_holds(ODD_RING, (), ("ring", 1, ((1, 2, 0), (2, 0, 1), (0, 1, 0)), ((0, 0, 1), (2, 2, 0), (1, 1, 1))))
+        self.assert_holds(ODD_RING, (),
+                          ("ring", 1, ((1, 2, 0), (2, 0, 1), (0, 1, 0)), ((0, 0, 1), (2, 2, 0), (1, 1, 1))))
 
     def test_a_longer_way_and_a_step_on_the_spot(self):
         self.assert_holds(ODD_RING, (), ("ring", 0, THERE + BACK + THERE, BACK))
@@ -200,7 +201,8 @@ class SumTest(JudgeTest):
 
     def test_cells_that_do_not_rise(self):
         parts = SUM[1]
-        for cells in ((1, 0), (0, 0), (1, 1), (0, 1, 1), (0, 0, 1), (0, 1, 0), [0, 1], (0,), (1,), (0, 2), (0, 1, 2), (),
+        for cells in ((1, 0), (0, 0), (1, 1), (0, 1, 1), (0, 0, 1), (0, 1, 0), [0, 1], (0,), (1,), (0, 2), (0, 1, 2),
+                      (),
                       (0, True), (False, 1), (-1, 1), (0, None), ((0, 1),), "01", None, 0):
             self.assert_fails(ODD_RING, (), ("sum", ((0, cells, 1),) + parts[1:]))
 
@@ -226,7 +228,8 @@ class SumTest(JudgeTest):
         puzzle = Puzzle(BOOK, 2, [(5, (0, 0, 1)), (1, (1,)), (4, (1, 0, 0))])
         self.assert_holds(puzzle, (), ("sum", ((0, (1,), 0), (1, (1,), 1))))
         self.assert_holds(puzzle, ((0, 1),), ("sum", ((0, (0, 1), 1), (2, (0, 1), 0))))
-        self.assert_fails(puzzle, (), ("sum", ((0, (0, 0, 1), 0), (1, (1,), 1))), ("sum", ((0, (0, 1), 0), (1, (1,), 1))))
+        self.assert_fails(puzzle, (), ("sum", ((0, (0, 0, 1), 0), (1, (1,), 1))),
+                          ("sum", ((0, (0, 1), 0), (1, (1,), 1))))
 
     def test_spoilt(self):
         self.assert_spoilt_as_told(ODD_RING, (), SUM)
@@ -324,7 +327,8 @@ class AnyPaperTest(JudgeTest):
 
     def test_what_is_no_start(self):
         wrong = [value for value in any_values() if value not in ((), ((0, 1),))] + [
-            [], ((5, 0),), ((-1, 0),), ((0, 2),), ((0, True),), ((True, 1),), ((0, 1), (0, 1)), ((1, 0), (0, 0)), ([0, 1],)]
+            [], ((5, 0),), ((-1, 0),), ((0, 2),), ((0, True),), ((True, 1),), ((0, 1), (0, 1)), ((1, 0), (0, 0)),
+            ([0, 1],)]
         for start in wrong:
             for paper in (STEPS_CHAIN, None, (), ("chain", (), 0)):
                 with self.assertRaises(CellError) as told:

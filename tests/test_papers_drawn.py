@@ -12,7 +12,8 @@ from tests.worked_out import all_fillings, all_rows, drawing, drawn_book, drawn_
 
 PAIRS = [Relation(2, rows) for rows in ([(0, 1), (1, 0)], [(0, 0), (1, 1)], [(0, 0), (0, 1), (1, 1)],
                                         [(0, 1), (1, 0), (1, 1)], [(0, 0), (0, 1), (1, 0)])]
-SUMS = [Relation(size, [row for row in all_rows(size) if sum(row) % 2 == bit]) for size in (1, 2, 3, 4) for bit in (0, 1)]
+SUMS = [Relation(size, [row for row in all_rows(size) if sum(row) % 2 == bit])
+        for size in (1, 2, 3, 4) for bit in (0, 1)]
 
 
 def drawn_step(draw, puzzle):

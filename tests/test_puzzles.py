@@ -6,6 +6,7 @@ from eightcells.books import Book
 from eightcells.errors import CellError, InvalidNumber, InvalidPuzzle
 from eightcells.puzzles import Puzzle
 from eightcells.relations import Relation
+from tests.cases import Case
 from tests.samples import any_values, is_all_plain, nested, no_sequences
 
 UNLIKE = Relation(2, [(0, 1), (1, 0)])
@@ -136,12 +137,7 @@ class WrongPuzzleTest(unittest.TestCase):
         self.assertEqual(ties, [TIES[0], [0, (0, 1)]])
 
 
-class EqualTest(unittest.TestCase):
-
-    def assert_equal_is(self, one, other, whether):
-        self.assertIs(one == other, whether)
-        self.assertIs(other == one, whether)
-        self.assertIs(one != other, not whether)
+class EqualTest(Case):
 
     def test_equal_book_cells_and_ties(self):
         book = Book([Relation(2, [(1, 0), (0, 1)]), ONE_OF_THREE, YES, FOUR])
@@ -151,7 +147,8 @@ class EqualTest(unittest.TestCase):
     def test_each_of_the_three_counts(self):
         puzzle = Puzzle(BOOK, 5, TIES)
         more = Book([UNLIKE, ONE_OF_THREE, YES, FOUR, YES])
-        for other in (Puzzle(more, 5, TIES), Puzzle(BOOK, 6, TIES), Puzzle(BOOK, 5, TIES[:3]), Puzzle(BOOK, 5, TIES[::-1]),
+        for other in (Puzzle(more, 5, TIES), Puzzle(BOOK, 6, TIES), Puzzle(BOOK, 5, TIES[:3]),
+                      Puzzle(BOOK, 5, TIES[::-1]),
                       Puzzle(BOOK, 5, TIES + TIES[:1]), Puzzle(BOOK, 5, ((0, (1, 0)),) + TIES[1:])):
             self.assert_equal_is(puzzle, other, False)
 
@@ -189,7 +186,8 @@ class WithAndWithoutTest(unittest.TestCase):
 
     def test_with_what_is_no_tie(self):
         empty = Puzzle(BOOK, 0, [])
-        for tie in any_values() + [[0, (0, 1)], (0, [0, 1]), (0, (0, 5)), (4, (0, 1)), (True, (0, 1, 2)), (0, (0, True)),
+        for tie in any_values() + [[0, (0, 1)], (0, [0, 1]), (0, (0, 5)), (4, (0, 1)), (True, (0, 1, 2)),
+                                   (0, (0, True)),
                                    (0, (0,)), (0, (-1, 0)), (0, (0, 1), 2)]:
             self.assert_raises_with(InvalidPuzzle, {"part": "ties", "place": 4}, self.puzzle.with_tie, tie)
             self.assert_raises_with(InvalidPuzzle, {"part": "ties", "place": 0}, empty.with_tie, tie)

@@ -6,6 +6,7 @@ from itertools import product
 from eightcells.books import Book
 from eightcells.errors import InvalidRelation
 from eightcells.relations import Relation
+from tests.cases import Case
 from tests.samples import any_values, nested, no_sequences
 
 # Each as passed, with a row twice and in no order, and as it is kept.
@@ -143,7 +144,8 @@ class HasTest(unittest.TestCase):
 
     def test_what_only_looks_like_a_row(self):
         relation = Relation(2, [(0, 1), (1, 1)])
-        looks = [[0, 1], [1, 1], (False, True), (0, True), (False, 1), (True, True), (True, 1), (0,), (1,), (), (0, 1, 1),
+        looks = [[0, 1], [1, 1], (False, True), (0, True), (False, 1), (True, True), (True, 1), (0,), (1,), (),
+                 (0, 1, 1),
                  (0, 1, 0), "01", ("0", "1"), ((0, 1),), [(0, 1)], ((0, 1), (1, 1)), relation, Relation(2, [(0, 1)]),
                  Book([relation]), (relation, relation), (0, (1,)), (0, [1]), (0, 2), (0, -1), (-1, 1), (None, 1)]
         for value in looks:
@@ -178,12 +180,7 @@ class HasTest(unittest.TestCase):
         self.assertEqual((relation.size, relation.rows), (2, ((0, 1), (1, 0))))
 
 
-class EqualTest(unittest.TestCase):
-
-    def assert_equal_is(self, one, other, whether):
-        self.assertIs(one == other, whether)
-        self.assertIs(other == one, whether)
-        self.assertIs(one != other, not whether)
+class EqualTest(Case):
 
     def test_the_same_size_and_rows(self):
         for size, rows, kept in MADE:

@@ -3,8 +3,9 @@
 import unittest
 from itertools import product
 
-from eightcells.errors import CellError, InvalidNumber, Undefined
+from eightcells.errors import InvalidNumber, Undefined
 from eightcells.relations import Relation
+from tests.cases import Case
 from tests.samples import any_values, nested, no_sequences
 
 ONE_OF_THREE = ((0, 0, 1), (0, 1, 0), (1, 0, 0))
@@ -12,20 +13,10 @@ STEPS = ((0, 0, 0), (0, 0, 1), (0, 1, 1), (1, 1, 1))
 FOUR = ((0, 0, 1, 1), (0, 1, 1, 0), (1, 1, 0, 1))
 
 
-class ReadTest(unittest.TestCase):
+class ReadTest(Case):
 
     def assert_stays(self, relation, size, rows):
         self.assertEqual((relation.size, relation.rows), (size, rows))
-
-    def assert_raises_with(self, error, name, value, call, *arguments):
-        with self.assertRaises(CellError) as told:
-            call(*arguments)
-        self.assertIs(type(told.exception), error)
-        kept = getattr(told.exception, name)
-        if isinstance(value, str):
-            self.assertEqual(kept, value)
-        else:
-            self.assertIs(kept, value)
 
 
 class OppositeTest(ReadTest):
@@ -95,7 +86,8 @@ class ReadAtTest(ReadTest):
         self.assert_stays(relation, size, rows)
 
     def test_wrong_places(self):
-        wrong = [[], (), [0, 1, 2, 0, 1], (0,) * 5, [3], (3,), [0, 3], [3, 0], [10 ** 5000], [-1], (0, -1), [-3], [True],
+        wrong = [[], (), [0, 1, 2, 0, 1], (0,) * 5, [3], (3,), [0, 3], [3, 0], [10 ** 5000], [-1], (0, -1), [-3],
+                 [True],
                  [False], [0, True], (False, 1), [None], (0, None), ["0"], [[0]], ((0,),), [(0, 1)], [0, [1]],
                  [Relation(1, [(0,)])], nested(30, list, 0), nested(30, tuple, 0)]
         for places in wrong + no_sequences() + [{0}, {0: 1}, range(2), iter([0]), b"\x00"]:

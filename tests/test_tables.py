@@ -4,9 +4,10 @@ import unittest
 from itertools import product
 
 from eightcells.books import Book
-from eightcells.errors import CellError, InvalidTable, Undefined
+from eightcells.errors import InvalidTable, Undefined
 from eightcells.relations import Relation
 from eightcells.tables import blamed, break_of, is_table, kept_by, made_row, table_of, widened, worth_of
+from tests.cases import Case
 from tests.samples import any_values, is_all_plain, nested
 from tests.worked_out import (
     all_rows, all_tables, deed_tables, drawing, drawn_book, first_break, keeps, made, words_kept)
@@ -19,20 +20,7 @@ EVEN = Relation(3, [(0, 0, 0), (0, 1, 1), (1, 0, 1), (1, 1, 0)])
 ALL_SIX = ("all no", "all yes", "and", "or", "majority", "odd one")
 
 
-class TablesTest(unittest.TestCase):
-
-    def assert_raises_with(self, error, name, value, call, *arguments, **named):
-        with self.assertRaises(CellError) as told:
-            call(*arguments, **named)
-        self.assertIs(type(told.exception), error)
-        kept = getattr(told.exception, name)
-        if isinstance(value, str):
-            self.assertEqual(kept, value)
-        else:
-            self.assertIs(kept, value)
-
-
-class IsTableTest(TablesTest):
+class IsTableTest(Case):
 
     def test_rows_of_each_length(self):
         for length in range(18):
@@ -63,11 +51,12 @@ class IsTableTest(TablesTest):
         self.assertIs(is_table(m=1, value=(0, 1)), True)
 
 
-class WorthTest(TablesTest):
+class WorthTest(Case):
 
     def test_worked_out_by_hand(self):
         for table, row, worth in [
-                ((0, 1), (0,), 0), ((0, 1), (1,), 1), ((1, 0), (1,), 0), ((0, 1, 0, 0), (0, 1), 1), ((0, 1, 0, 0), (1, 0), 0),
+                ((0, 1), (0,), 0), ((0, 1), (1,), 1), ((1, 0), (1,), 0), ((0, 1, 0, 0), (0, 1), 1),
+                ((0, 1, 0, 0), (1, 0), 0),
                 ((0, 0, 0, 0, 1, 0, 0, 0), (1, 0, 0), 1), ((0, 0, 0, 0, 1, 0, 0, 0), (0, 0, 1), 0),
                 ((0,) * 13 + (1, 0, 0), (1, 1, 0, 1), 1), ((0,) * 13 + (1, 0, 0), (1, 0, 1, 1), 0)]:
             self.assertIs(type(worth_of(table, row)), int)
@@ -83,7 +72,7 @@ class WorthTest(TablesTest):
         self.assertEqual(worth_of(row=(1, 0), table=(0, 0, 1, 0)), 1)
 
 
-class MadeRowTest(TablesTest):
+class MadeRowTest(Case):
 
     def test_worked_out_by_hand(self):
         for table, rows, row in [
@@ -117,7 +106,7 @@ class MadeRowTest(TablesTest):
         self.assertEqual(rows, [(0, 1), (1, 1)])
 
 
-class BreakTest(TablesTest):
+class BreakTest(Case):
 
     def assert_break(self, book, table):
         found = break_of(book, table)
@@ -179,7 +168,7 @@ class BreakTest(TablesTest):
             self.assert_raises_with(InvalidTable, "value", table, break_of, book, table)
 
 
-class TableOfTest(TablesTest):
+class TableOfTest(Case):
 
     def test_the_six(self):
         self.assertEqual([table_of(word) for word in ALL_SIX], [table for _, table in deed_tables()])
@@ -189,12 +178,13 @@ class TableOfTest(TablesTest):
         self.assertEqual(table_of(word="and"), (0, 0, 0, 1))
 
     def test_any_other_value(self):
-        for word in any_values() + ["And", "and ", " and", "no", "all", "all maybe", "odd", "oddone", "majority\n", ("and",),
+        for word in any_values() + ["And", "and ", " and", "no", "all", "all maybe", "odd", "oddone", "majority\n",
+                                    ("and",),
                                     ["and"], {"and": 1}, ("all", "no"), (0, 0, 0, 1), "xor"]:
             self.assert_raises_with(Undefined, "what", "word", table_of, word)
 
 
-class KeptTest(TablesTest):
+class KeptTest(Case):
 
     def assert_kept(self, book):
         for named in ({}, {"fixed": False}, {"fixed": True}):
@@ -242,7 +232,7 @@ class KeptTest(TablesTest):
         self.assertEqual(kept_by(Book([Relation(4, all_rows(4))] * 6)), ALL_SIX)
 
 
-class BlamedTest(TablesTest):
+class BlamedTest(Case):
 
     def assert_blamed(self, book):
         found = blamed(book)
@@ -272,7 +262,7 @@ class BlamedTest(TablesTest):
             self.assert_blamed(Book(relations))
 
 
-class WidenedTest(TablesTest):
+class WidenedTest(Case):
 
     def test_row_by_row(self):
         for places in (1, 2, 3):
@@ -289,7 +279,7 @@ class WidenedTest(TablesTest):
         self.assertEqual(widened((0, 1, 1, 0, 1, 0, 0, 1)), (0, 1, 1, 0, 1, 0, 0, 1))
 
 
-class SameAnswerTest(TablesTest):
+class SameAnswerTest(Case):
 
     def test_equal_calls_return_equal_results(self):
         book = Book([UNLIKE, RISING])

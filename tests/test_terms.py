@@ -2,8 +2,9 @@
 
 import unittest
 
-from eightcells.errors import CellError, InvalidTable, Undefined
+from eightcells.errors import InvalidTable, Undefined
 from eightcells.terms import is_plain, term_holds, term_of, term_table
+from tests.cases import Case
 from tests.samples import any_values, is_all_plain, nested, spoilt
 from tests.worked_out import DEEDS, all_rows, all_tables, drawing
 
@@ -65,25 +66,12 @@ def full_term(levels):
     return term
 
 
-class TermsTest(unittest.TestCase):
-
-    def assert_raises_with(self, error, name, value, call, *arguments):
-        with self.assertRaises(CellError) as told:
-            call(*arguments)
-        self.assertIs(type(told.exception), error)
-        kept = getattr(told.exception, name)
-        if isinstance(value, str):
-            self.assertEqual(kept, value)
-        else:
-            self.assertIs(kept, value)
-
-
 def no_tables():
     return any_values() + [(0, 1), (0, 0, 0, 1), (0,) * 16, (0,) * 7, (0,) * 9, [0] * 8, (0,) * 7 + (True,),
                            (0,) * 7 + (2,), (0,) * 7 + (-1,), (0,) * 7 + (None,), "00000000", ((0,) * 8,), (False,) * 8]
 
 
-class PlainTest(TermsTest):
+class PlainTest(Case):
 
     def test_all_tables(self):
         for table in TABLES:
@@ -92,7 +80,7 @@ class PlainTest(TermsTest):
         self.assertEqual(len([table for table in TABLES if is_plain(table)]), 6)
 
 
-class TermTableTest(TermsTest):
+class TermTableTest(Case):
 
     def test_places(self):
         for table in TABLES:
@@ -155,7 +143,7 @@ class TermTableTest(TermsTest):
                 self.assert_raises_with(InvalidTable, "value", table, term_table, table, term)
 
 
-class TermOfTest(TermsTest):
+class TermOfTest(Case):
 
     def test_all_tables(self):
         for table in TABLES:
@@ -178,7 +166,7 @@ class TermOfTest(TermsTest):
             self.assert_raises_with(InvalidTable, "value", table, term_of, table)
 
 
-class TermHoldsTest(TermsTest):
+class TermHoldsTest(Case):
 
     def test_other_words_and_changed_terms(self):
         draw = drawing(122)

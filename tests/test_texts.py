@@ -139,7 +139,8 @@ class ReadTest(unittest.TestCase):
                      "relation 2 ,", "relation 0 ", "relation 0 01", "relation 5 00000", "relation 5 00000,11111",
                      "relation 02 01,10", "relation +2 01,10", "relation -2 01", "relation 2.0 01", "relation  01",
                      "relation 2 02,10", "relation 2 0a", "relation 2 0-1", "relation 2 +1", "relation 2 0 1",
-                     "relation 2 01 10", "relation 2 01, 10", "Relation 2 01,10", "relations 2 01,10", "relation2 01,10",
+                     "relation 2 01 10", "relation 2 01, 10", "Relation 2 01,10", "relations 2 01,10",
+                     "relation2 01,10",
                      "relation 2 01;10", "2 01,10", "relation two 01,10", "relation 2 (0,1)", "relation 2 01,10 0"):
             self.assert_wrong_line(0, line)
             self.assert_wrong_line(1, line)
@@ -151,7 +152,8 @@ class ReadTest(unittest.TestCase):
             self.assert_wrong_line(2, line)
 
     def test_wrong_tie_lines(self):
-        for line in ("tie", "tie 0", "tie 0 ", "tie  0,1", "tie 0 0", "tie 0 0,1,2", "tie 1 0,1", "tie 2 0,1", "tie 0 0,12",
+        for line in ("tie", "tie 0", "tie 0 ", "tie  0,1", "tie 0 0", "tie 0 0,1,2", "tie 1 0,1", "tie 2 0,1",
+                     "tie 0 0,12",
                      "tie 0 12,0", "tie 0 0,13", "tie 00 0,1", "tie 0 00,1", "tie 0 0,01", "tie 0 0,,1", "tie 0 ,0,1",
                      "tie 0 0,1,", "tie 0 0, 1", "tie 0 0 1", "tie -0 0,1", "tie 0 -1,0", "tie +0 0,1", "tie 0 0,+1",
                      "tie 0 0,1000000", "tie 0 0,0000001", "tie 1000000 0,1", "tie 0 0,1 0", "Tie 0 0,1", "ties 0 0,1",
@@ -168,7 +170,8 @@ class ReadTest(unittest.TestCase):
 
     def test_blanks_more_and_less(self):
         for k, line in enumerate(GOOD):
-            for wrong in (" " + line, line + " ", line.replace(" ", "  "), line.replace(" ", ""), line.replace(",", ", "),
+            for wrong in (" " + line, line + " ", line.replace(" ", "  "), line.replace(" ", ""),
+                          line.replace(",", ", "),
                           line.replace(",", " ,"), line.replace(",", " "), line + "\r", line + "\t",
                           line.replace(" ", "\t", 1)):
                 if wrong != line:

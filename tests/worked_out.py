@@ -1,4 +1,4 @@
-"""What the points say, worked out row by row, slowly, with none of the program's functions but the making of objects."""
+"""What the points say, worked out row by row, slowly; of the program only the classes are used."""
 
 from itertools import product
 from random import Random
@@ -63,7 +63,8 @@ def words_kept(book, fixed=False):
 def fits(puzzle, row, start=()):
     if any(row[cell] != value for cell, value in start):
         return False
-    return all(tuple(row[cell] for cell in cells) in puzzle.book.relations[number].rows for number, cells in puzzle.ties)
+    relations = puzzle.book.relations
+    return all(tuple(row[cell] for cell in cells) in relations[number].rows for number, cells in puzzle.ties)
 
 
 def all_fillings(puzzle, start=()):
