@@ -44,3 +44,11 @@ def row_number(row):
 
 def opposite_of(row):
     return tuple([1 - value for value in row])
+
+
+def all_rows(size):
+    """All rows of so many values, ascending."""
+    rows = [()]
+    for _ in range(size):
+        rows = [row + (value,) for row in rows for value in (0, 1)]
+    return rows

@@ -16,13 +16,18 @@ def deed_puzzle(book, m):
         raise InvalidNumber(m)
     ties = []
     for number, relation in enumerate(book.relations):
-        ties.extend([_deed_tie(number, rows) for rows in _tuples_of(relation.rows, m)])
+        ties.extend([deed_tie(number, rows) for rows in _tuples_of(relation.rows, m)])
     return Puzzle(book, 1 << m, ties)
 
 
-def _deed_tie(number, rows):
+def deed_tie(number, rows):
     """The tie that says: what a table makes of these rows of the relation is a row of it."""
-    return (number, tuple([row_number(values) for values in zip(*rows)]))
+    return (number, cells_read(rows))
+
+
+def cells_read(rows):
+    """The cells of the rows of values that these rows read place by place."""
+    return tuple([row_number(values) for values in zip(*rows)])
 
 
 def _tuples_of(rows, many):
@@ -76,7 +81,7 @@ def _is_pair(book, thing):
 def _tables_left(book, k, pairs, fixed):
     """The tables of three places that are none of the k plain ones and that no pair shows to break the book."""
     # A pair is a tie of deed_puzzle(book, 3), and a table that it does not show fills this tie.
-    puzzle = Puzzle(book, 8, [_deed_tie(number, rows) for number, rows in pairs])
+    puzzle = Puzzle(book, 8, [deed_tie(number, rows) for number, rows in pairs])
     tables = fillings(puzzle, LIKE_STAYS if fixed else ())
     plain = PLACE_TABLES
     if k == 6:

@@ -8,16 +8,21 @@ from eightcells.puzzles import fixed_by, is_start, views_under
 def none_holds(puzzle, start, paper):
     if not is_start(puzzle, start):
         raise InvalidStart(start)
+    return shows_none(puzzle, fixed_by(start), paper)
+
+
+def shows_none(puzzle, fixed, paper):
+    """Whether it is a paper that no filling has the values that are fixed."""
     # A list of what is still to be judged, as splits may lie deeper than calls should.
-    waiting = [(fixed_by(start), paper)]
+    waiting = [(fixed, paper)]
     while waiting:
-        fixed, part = waiting.pop()
+        so_far, part = waiting.pop()
         if _is_of_kind(part, "split", 4):
-            if not _is_free(puzzle, part[1], fixed):
+            if not _is_free(puzzle, part[1], so_far):
                 return False
-            waiting.append(({**fixed, part[1]: 0}, part[2]))
-            waiting.append(({**fixed, part[1]: 1}, part[3]))
-        elif not _holds_unsplit(puzzle, fixed, part):
+            waiting.append(({**so_far, part[1]: 0}, part[2]))
+            waiting.append(({**so_far, part[1]: 1}, part[3]))
+        elif not _holds_unsplit(puzzle, so_far, part):
             return False
     return True
 

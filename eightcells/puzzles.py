@@ -70,6 +70,10 @@ def fixed_by(start):
     return {cell: value for cell, value in start}
 
 
+def keeps_start(row, start):
+    return all([row[cell] == value for cell, value in start])
+
+
 def views(puzzle, t, start=()):
     if not is_number_below(t, len(puzzle.ties)):
         raise InvalidNumber(t)
@@ -89,6 +93,14 @@ def _is_view(row, cells, fixed):
         if fixed.get(cell, value) != value or seen.setdefault(cell, value) != value:
             return False
     return True
+
+
+def rows_at_cells(puzzle, t, fixed):
+    """The cells of the tie, each once and rising, and what its views let stand there."""
+    tied = puzzle.ties[t][1]
+    cells = tuple(sorted(set(tied)))
+    places = [tied.index(cell) for cell in cells]
+    return cells, [tuple([row[place] for place in places]) for row in views_under(puzzle, t, fixed)]
 
 
 def fillings(puzzle, start=()):
@@ -126,12 +138,9 @@ def _groups_by_last_cell(puzzle, fixed):
 
 def _narrow_by_tie(allowed, puzzle, t, fixed):
     """Let stand at the tie's first cells, in the order of their numbers, only what begins a view."""
-    tied = puzzle.ties[t][1]
-    cells = sorted(set(tied))
-    places = [tied.index(cell) for cell in cells]
-    rows = [tuple([row[place] for place in places]) for row in views_under(puzzle, t, fixed)]
+    cells, rows = rows_at_cells(puzzle, t, fixed)
     for many in range(1, len(cells) + 1):
-        group = tuple(cells[:many])
+        group = cells[:many]
         heads = {row[:many]: True for row in rows}
         if group in allowed:
             heads = {row: True for row in allowed[group] if row in heads}

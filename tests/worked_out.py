@@ -107,3 +107,31 @@ def drawn_start(draw, cell_count, most=3):
 
 def drawing(seed):
     return Random(seed)
+
+
+def closed(relation, word):
+    """The least relation with these rows that the word's table keeps: rows are put in until none is lacking."""
+    table = dict(deed_tables())[word]
+    rows = set(relation.rows)
+    while True:
+        more = {made(table, chosen) for chosen in product(sorted(rows), repeat=places_of(table))} - rows
+        if not more:
+            return Relation(relation.size, sorted(rows))
+        rows |= more
+
+
+def drawn_book_kept(draw, word, most_relations=3, sizes=(1, 2, 3, 4), least=1, most=16):
+    """A drawn book that the deed keeps; of the word None just a drawn book."""
+    book = drawn_book(draw, most_relations, sizes, least, most)
+    return book if word is None else Book([closed(relation, word) for relation in book.relations])
+
+
+def first_of(all_found, wishes):
+    """The filling that is first by the wishes: wish by wish those that have it are left, if there are any."""
+    for cell, wish in enumerate(wishes):
+        all_found = [row for row in all_found if row[cell] == wish] or all_found
+    return all_found[0]
+
+
+def same_in_all(all_found):
+    return tuple((cell, values[0]) for cell, values in enumerate(zip(*all_found)) if len(set(values)) == 1)
