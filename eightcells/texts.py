@@ -30,24 +30,29 @@ def _tie_line(tie):
 
 def read_puzzle(text):
     lines = text.split("\n")
+    book, cell_count = book_and_cells(text, lines)
+    ties = []
+    for k in range(len(book) + 1, len(lines)):
+        tie = _tie_told(lines[k])
+        if not is_tie(tie, book, cell_count):
+            raise InvalidText(text, line_begin(lines, k))
+        ties.append(tie)
+    return Puzzle(book, cell_count, ties)
+
+
+def book_and_cells(text, lines):
+    """What the first lines of the text tell: one for each relation of the book, and one for the number of cells."""
     relations = _relations_ahead(lines)
     many = len(relations)
     if many == len(lines):
         raise InvalidText(text, len(text))
     cell_count = _cells_told(lines[many])
     if many == 0 or cell_count is None:
-        raise InvalidText(text, _line_begin(lines, many))
-    book = Book(relations)
-    ties = []
-    for k in range(many + 1, len(lines)):
-        tie = _tie_told(lines[k])
-        if not is_tie(tie, book, cell_count):
-            raise InvalidText(text, _line_begin(lines, k))
-        ties.append(tie)
-    return Puzzle(book, cell_count, ties)
+        raise InvalidText(text, line_begin(lines, many))
+    return Book(relations), cell_count
 
 
-def _line_begin(lines, k):
+def line_begin(lines, k):
     return sum([len(line) + 1 for line in lines[:k]])
 
 

@@ -6,7 +6,9 @@ from inspect import signature
 from pathlib import Path
 
 import eightcells
-from eightcells import books, chains, eight, errors, papers, puzzles, relations, tables, terms, texts
+from eightcells import (
+    books, carrying, chains, desk, eight, errors, filling, fixed, forms, histories, papers, puzzles, questions, relations,
+    tables, terms, texts, writing)
 
 PACKAGE = Path(eightcells.__file__).parent
 IMPORTED = {"eightcells", "__future__", "heapq", "math", "itertools", "collections"}
@@ -19,6 +21,10 @@ CLASSES = [
     (books, "Book", ["relations"], {"__eq__": ["other"], "__len__": []}),
     (puzzles, "Puzzle", ["book", "cell_count", "ties"], {
         "with_tie": ["tie"], "without": ["t"], "__eq__": ["other"]}),
+    (carrying, "Carried", ["puzzle", "book"], {"on": ["filling"], "back": ["filling"]}),
+    (desk, "Desk", ["book", "cell_count"], {
+        "puzzle": [], "start": [], "move": ["move"], "undo": [], "redo": [], "done": [], "watch": ["question"],
+        "leave": ["question"], "watched": [], "claim": ["question"], "paper_for": ["question"]}),
     (errors, "InvalidNumber", ["value"], {}),
     (errors, "InvalidPuzzle", ["part", "place"], {}),
     (errors, "InvalidText", ["text", "at"], {}),
@@ -35,6 +41,19 @@ FUNCTIONS = [
              "side_holds(book, claim, paper, *, fixed=False)"]),
     (papers, ["none_holds(puzzle, start, paper)"]),
     (chains, ["forced(puzzle, start=())"]),
+    (filling, ["fill(puzzle, start=())", "least_filling(puzzle, start=())", "greatest_filling(puzzle, start=())",
+               "first_by(puzzle, wishes, start=())", "first_paper(puzzle, wishes, start=())",
+               "first_holds(puzzle, wishes, start, claim, paper)"]),
+    (fixed, ["fixed_cells(puzzle, start=())", "fixed_paper(puzzle, start=())",
+             "fixed_holds(puzzle, start, claim, paper)", "count(puzzle, start=())"]),
+    (forms, ["fulfils(row, clause)", "told_by(size, clauses)", "least_kept(relation, word)", "if_clauses(relation)",
+             "pair_clauses(relation)", "sum_clauses(relation)"]),
+    (writing, ["least_written(book, rows)", "written_claim(book, relation)", "written_paper(book, relation)",
+               "written_holds(book, relation, claim, paper)", "writes(one, other)"]),
+    (carrying, ["three_puzzle(book)"]),
+    (questions, ["is_question(puzzle, value)", "answer_of(puzzle, start, question)",
+                 "paper_of(puzzle, start, question)", "claim_holds(puzzle, start, question, claim, paper)"]),
+    (histories, ["told(value)", "untold(text)", "write_history(desk)", "history_holds(text)", "relived(text)"]),
 ]
 
 
