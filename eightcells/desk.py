@@ -63,9 +63,7 @@ class Desk:
         if not is_question(self._puzzle, question):
             raise InvalidQuestion(question)
         if question not in self._answers:
-            event = ("watch", question)
-            self.change(event)
-            self.keep(event, [self._found(Solver(self._puzzle), question)])
+            self.keep(("watch", question), [self._found(Solver(self._puzzle), question)])
         return self.claim(question)
 
     def leave(self, question):
@@ -120,7 +118,7 @@ class Desk:
         return bool(self._done if word == "undo" else self._undone)
 
     def change(self, event):
-        """Does what the event says, but for the answers: these are to be kept next."""
+        """Does what the event says, but for the answers: these are to be kept next. To watch is nothing else."""
         word = event[0]
         if word == "leave":
             del self._answers[event[1]]

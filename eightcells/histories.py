@@ -142,6 +142,6 @@ def _answer_told(text, lines, k, desk, question):
     if claim_holds(desk.puzzle(), desk.start(), question, claim, paper):
         return (claim, paper)
     # What is wrong is the claim, the paper, or that there is none.
-    if k < len(lines) and claim == answer_of(desk.puzzle(), desk.start(), question):
+    if claim == answer_of(desk.puzzle(), desk.start(), question):
         k += 1
     raise InvalidText(text, line_begin(lines, k) if k < len(lines) else len(text))

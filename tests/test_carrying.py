@@ -234,6 +234,9 @@ class CarriedTest(Case):
                 self.assertIn(carried.on(row), found)
                 self.assertEqual(carried.back(carried.on(row)), row)
 
+    def test_it_is_not_iterable(self):
+        self.assertRaises(TypeError, iter, Carried(FIRSTS[0], WRITE_ALL[0]))
+
     def test_what_was_passed_stays(self):
         carried = Carried(book=WRITE_TURNED[0], puzzle=FIRSTS[7])
         self.assertEqual(carried.first, FIRSTS[7])

@@ -27,7 +27,8 @@ NO_MOVES = [
     ("take",), ("take", 2), ("take", -1), ("take", True), ("take", False), ("take", None), ("take", 0, 0), ["take", 0],
     ("take", (0,)), ("take", "0"), ("fix",), ("fix", 0), ("fix", 4, 0), ("fix", 4, 1), ("fix", 5, 0), ("fix", -1, 0),
     ("fix", 0, 2), ("fix", 0, -1), ("fix", 0, True), ("fix", 0, None), ("fix", False, 0), ("fix", None, 0),
-    ("fix", 0, 0, 0), ["fix", 0, 0], ("fix", (0, 0)), ("free",), ("free", 0), ("free", 5), ("free", -1),
+    ("fix", 0, 0, 0), ["fix", 0, 0], ("fix", (0, 0)), ("fix", 4), ("tie", 4), ("lay", 4), ("lay", 0), ("lay", 0, 0),
+    ("free",), ("free", 0), ("free", 5), ("free", -1),
     ("free", True), ("free", None), ("free", 4, 0), ["free", 4], ("free", (4, 0)), ("free", [4]), ("lay", 0, (0, 1)),
     ("undo",), ("Tie", 0, (0, 1)), "tie", ("fill",), (None, 0, (0, 1)), (("take", 0),), ("free", "4")]
 
@@ -45,6 +46,9 @@ class DeskTest(Case):
             desk = Desk(BOOK, cell_count)
             self.assertEqual(state_of(desk), (Puzzle(BOOK, cell_count, ()), (), (), (), []))
         self.assertEqual(Desk(cell_count=3, book=BOOK).puzzle().cell_count, 3)
+
+    def test_it_is_not_iterable(self):
+        self.assertRaises(TypeError, iter, Desk(BOOK, 3))
 
     def test_what_is_no_book_and_no_number_of_cells(self):
         numbers = [value for value in any_values() if type(value) is not int or not 0 <= value <= 12]

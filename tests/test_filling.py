@@ -20,6 +20,8 @@ RISING = Relation(2, [(0, 0), (0, 1), (1, 1)])
 ONE_OR_BOTH = Relation(2, [(0, 1), (1, 0), (1, 1)])
 EVEN = Relation(3, [(0, 0, 0), (0, 1, 1), (1, 0, 1), (1, 1, 0)])
 ODD = Relation(3, [(0, 0, 1), (0, 1, 0), (1, 0, 0), (1, 1, 1)])
+FOUR_EVEN = Relation(4, [row for row in all_rows(4) if sum(row) % 2 == 0])
+FOUR_ODD = Relation(4, [row for row in all_rows(4) if sum(row) % 2 == 1])
 ONE_OF_THREE = Relation(3, [(0, 0, 1), (0, 1, 0), (1, 0, 0)])
 NOT_ALL_LIKE = Relation(3, all_rows(3)[1:7])
 HORN = Relation(3, [row for row in all_rows(3) if row != (1, 1, 0)])
@@ -62,6 +64,21 @@ class FillTest(Case):
         self.assertEqual(self.assert_fill(Puzzle(pairs, 5, three + ((1, (2, 3)), (1, (3, 4)))), ((4, 0),)), "ring")
         self.assertEqual(self.assert_fill(Puzzle(Book([UNLIKE, EVEN]), 3, three)), "sum")
         self.assertEqual(self.assert_fill(Puzzle(Book([ODD, EVEN]), 4, [(0, (0, 1, 2)), (1, (0, 1, 2))])), "sum")
+
+    def test_sums_that_no_single_tie_shows(self):
+        # Cells 0 and 1 are alike, as both ties have the same other cells.
+        puzzle = Puzzle(Book([FOUR_EVEN]), 5, [(0, (2, 3, 4, 0)), (0, (2, 3, 4, 1))])
+        self.assertEqual(self.assert_fill(puzzle), "filled")
+        for start in (((0, 1),), ((1, 1),), ((0, 1), (1, 1)), ((0, 0), (1, 0), (4, 1))):
+            self.assertEqual(self.assert_fill(puzzle, start), "filled")
+        for start in (((0, 1), (1, 0)), ((0, 0), (1, 1), (3, 1))):
+            self.assertEqual(self.assert_fill(puzzle, start), "sum")
+        draw = drawing(1703)
+        kinds = []
+        for _ in range(60):
+            ties = [(draw.randint(0, 1), tuple(draw.sample(range(8), 4))) for _ in range(draw.randint(5, 8))]
+            kinds.append(self.assert_fill(Puzzle(Book([FOUR_EVEN, FOUR_ODD]), 8, ties), drawn_start(draw, 8, 2)))
+        self.assertGreater(min(kinds.count(kind) for kind in ("filled", "sum")), 15)
 
     def test_no_ties_and_no_cells(self):
         for book in (BOOK, Book([UNLIKE, RISING]), Book([UNLIKE, EVEN]), Book([HORN]), Book([NO])):

@@ -122,6 +122,25 @@ class LargeTest(Case):
         assert_refuses(self, sums, (), paper)
         self.assertEqual(len(paper[1]), 39)
 
+    def test_sums_on_the_edge(self):
+        # About as many sums as cells: no single tie shows what some of them say together.
+        draw = drawing(207)
+        book = Book([EVEN, Relation(4, [row for row in all_rows(4) if not EVEN.has(row)])])
+        refused = 0
+        for many, planted in ((30, True), (36, True), (40, True), (200, True), (44, False), (60, False)) * 3:
+            row = [draw.randint(0, 1) for _ in range(40)]
+            all_cells = [tuple(draw.sample(range(40), 4)) for _ in range(many)]
+            ties = [(sum(row[cell] for cell in cells) % 2 if planted else draw.randint(0, 1), cells)
+                    for cells in all_cells]
+            puzzle = Puzzle(book, 40, ties)
+            if self.assert_filled_or_refused(puzzle, (), ("odd one",)):
+                self.assert_first(puzzle, (), ("odd one",), (1,) * 40)
+                self.assert_fixed(puzzle, (), ("odd one",))
+            else:
+                self.assertFalse(planted)
+                refused += 1
+        self.assertGreater(refused, 2)
+
     def test_least_and_greatest(self):
         ties = [(0, (k, k + 1)) for k in range(39)]
         puzzle = Puzzle(Book([RISING]), 40, ties * 5)
