@@ -20,7 +20,8 @@ def _steps_from(masks, known, yes):
     steps = {}
     for t in masks.ties:
         rows = masks.rows_left(t, known, yes)
-        cells = cells_in(masks.cells[t])
+        # No way needs to lead through what is known: all views of a tie have one value there.
+        cells = cells_in(masks.cells[t] & ~known)
         for cell in cells:
             for value in (0, 1):
                 found = steps.setdefault((cell, value), {})
